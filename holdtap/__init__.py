@@ -1,0 +1,1 @@
+"""holdtap: the program inside a keyboard."""

@@ -1,0 +1,191 @@
+import copy
+import unittest
+
+from holdtap import errors, layouts, records
+from holdtap.errors import HoldError, InvalidLayout, InvalidRecord
+
+LAYOUT = [
+    [("dual", "a", ("layer", 1), 5, "time"), ("code", "x"), ("once", 1)],
+    ["through", ("code", "1"), "through"],
+]
+RECORD = [(0, 0, "down"), (1, 1, "down"), (2, 1, "up"), (4, 0, "up")]
+ORDER = [(0, "down"), (1, "down"), (1, "up"), (0, "up")]
+WRONG = [[["through", "bad"]], [(0, 0, "down"), (0, 0, "down")], [(0, "down"), None], [], None]
+
+CALLS = [
+    (layouts.is_layout, [LAYOUT]),
+    (layouts.key_count, [LAYOUT]),
+    (layouts.duals, [LAYOUT]),
+    (layouts.greatest_time, [LAYOUT]),
+    (layouts.with_action, [LAYOUT, 1, 2, ("code", "z")]),
+    (records.is_record, [RECORD]),
+    (records.is_order, [ORDER]),
+    (records.is_whole, [RECORD]),
+    (records.order_of, [RECORD]),
+    (records.lengths, [RECORD]),
+    (records.ended, [RECORD]),
+    (records.ended, [RECORD[:3]]),
+    (records.ended, [[]]),
+    (records.lengths, [[]]),
+    (records.with_ticks, [ORDER, [0, 0, 7, 9]]),
+]
+
+
+def lists_within(value):
+    """The value's lists: itself and the items of it, at any depth."""
+    if not isinstance(value, list):
+        return []
+    return [value] + [found for item in value for found in lists_within(item)]
+
+
+def outcome(call, args):
+    """What a call returns, or its error's name and fields."""
+    try:
+        return call(*args)
+    except HoldError as error:
+        return error.__class__.__name__, vars(error)
+
+
+class TestConventions(unittest.TestCase):
+    def test_the_interface_is_defined_in_its_files(self):
+        names = {
+            layouts: ["is_layout", "key_count", "duals", "greatest_time", "with_action"],
+            records: [
+                "is_record", "is_order", "is_whole", "order_of", "lengths", "ended", "with_ticks",
+            ],
+            errors: ["HoldError"],
+        }
+        for module, listed in names.items():
+            for name in listed:
+                with self.subTest(name):
+                    self.assertEqual(getattr(module, name).__module__, module.__name__)
+
+    def test_arguments_are_not_modified(self):
+        for call, args in CALLS:
+            with self.subTest(call=call.__name__):
+                passed = copy.deepcopy(args)
+                call(*passed)
+                self.assertEqual(passed, args)
+
+    def test_arguments_are_not_modified_by_calls_that_fail(self):
+        for call, args in CALLS:
+            for wrong in WRONG:
+                for at in range(len(args)):
+                    with self.subTest(call=call.__name__, wrong=wrong, at=at):
+                        passed = copy.deepcopy(args[:at] + [wrong] + args[at + 1:])
+                        kept = copy.deepcopy(passed)
+                        outcome(call, passed)
+                        self.assertEqual(passed, kept)
+
+    def test_two_calls_with_equal_arguments_give_equal_results(self):
+        for call, args in CALLS:
+            for many in range(len(args)):
+                for wrong in WRONG + [args[many]]:
+                    with self.subTest(call=call.__name__, wrong=wrong):
+                        passed = args[:many] + [wrong] + args[many + 1:]
+                        first = outcome(call, copy.deepcopy(passed))
+                        second = outcome(call, copy.deepcopy(passed))
+                        self.assertEqual(first, second)
+
+    def test_returned_lists_are_new(self):
+        for call, args in CALLS:
+            with self.subTest(call=call.__name__):
+                passed = copy.deepcopy(args)
+                first, second = call(*passed), call(*passed)
+                mine = lists_within(first)
+                others = lists_within(second)
+                for arg in passed:
+                    others += lists_within(arg)
+                for one in mine:
+                    self.assertFalse(any(one is other for other in others))
+                self.assertEqual(len(mine), len({id(one) for one in mine}))
+
+    def test_changing_a_returned_list_changes_nothing_later(self):
+        for call, args in CALLS:
+            with self.subTest(call=call.__name__):
+                passed = copy.deepcopy(args)
+                first = call(*passed)
+                kept = copy.deepcopy(first)
+                for one in lists_within(first):
+                    one.append("changed")
+                self.assertEqual(passed, args)
+                self.assertEqual(call(*passed), kept)
+
+    def test_layers_that_are_one_list_are_parted(self):
+        row = ["none", "none"]
+        layout = [row, row]
+        changed = layouts.with_action(layout, 1, 0, ("code", "x"))
+        self.assertEqual(changed, [["none", "none"], [("code", "x"), "none"]])
+        changed[0].append("changed")
+        self.assertEqual(changed[1], [("code", "x"), "none"])
+        self.assertEqual(layout, [["none", "none"], ["none", "none"]])
+
+    def test_a_result_does_not_follow_its_arguments(self):
+        layout, record, ticks = copy.deepcopy(LAYOUT), list(RECORD), [0, 1, 2, 4]
+        changed = layouts.with_action(layout, 0, 0, "none")
+        closed = records.ended(record)
+        joined = records.with_ticks(records.order_of(record), ticks)
+        layout[1][1] = "none"
+        record.append((9, 5, "down"))
+        ticks[0] = -7
+        self.assertEqual(changed, [["none", ("code", "x"), ("once", 1)], LAYOUT[1]])
+        self.assertEqual(closed, RECORD)
+        self.assertEqual(joined, RECORD)
+
+    def test_a_layout_that_was_changed_in_place_is_judged_as_it_is(self):
+        layout = copy.deepcopy(LAYOUT)
+        self.assertIs(layouts.is_layout(layout), True)
+        self.assertEqual(layouts.key_count(layout), 3)
+        layout[1][0] = ("dual", "a", ("code", "b"), 8, "other")
+        self.assertEqual(layouts.duals(layout), [(0, 0), (1, 0)])
+        self.assertEqual(layouts.greatest_time(layout), 8)
+        for layer in layout:
+            layer.append("none")
+        self.assertEqual(layouts.key_count(layout), 4)
+        layout[0][3] = "through"
+        self.assertIs(layouts.is_layout(layout), False)
+        with self.assertRaises(InvalidLayout) as caught:
+            layouts.key_count(layout)
+        self.assertEqual((caught.exception.layer, caught.exception.key), (0, 3))
+        layout[0].pop()
+        with self.assertRaises(InvalidLayout) as caught:
+            layouts.duals(layout)
+        self.assertEqual((caught.exception.layer, caught.exception.key), (None, None))
+        layout[1].pop()
+        self.assertIs(layouts.is_layout(layout), True)
+
+    def test_a_record_that_was_changed_in_place_is_judged_as_it_is(self):
+        record = list(RECORD)
+        self.assertIs(records.is_whole(record), True)
+        record.append((5, 7, "down"))
+        self.assertIs(records.is_whole(record), False)
+        self.assertEqual(records.lengths(record), [4, 1, None, None, None])
+        record[3] = (5, 0, "up")
+        self.assertEqual(records.lengths(record), [5, 1, None, None, None])
+        record[3] = (6, 0, "up")
+        self.assertIs(records.is_record(record), False)
+        with self.assertRaises(InvalidRecord) as caught:
+            records.lengths(record)
+        self.assertEqual(caught.exception.index, 4)
+
+    def test_an_order_that_was_changed_in_place_is_judged_as_it_is(self):
+        order = list(ORDER)
+        self.assertIs(records.is_order(order), True)
+        order[3] = (1, "up")
+        self.assertIs(records.is_order(order), False)
+        order[3] = (1, "down")
+        self.assertEqual(records.with_ticks(order, [1, 1, 1, 1])[3], (1, 1, "down"))
+
+    def test_returned_values_are_accepted(self):
+        changed = layouts.with_action(LAYOUT, 0, 1, "none")
+        self.assertEqual(layouts.with_action(changed, 0, 1, ("code", "x")), LAYOUT)
+        for many in range(5):
+            closed = records.ended(RECORD[:many])
+            self.assertIs(records.is_record(closed), True)
+            self.assertEqual(records.ended(closed), closed)
+            again = records.with_ticks(records.order_of(closed), [0] * len(closed))
+            self.assertIs(records.is_record(again), True)
+
+
+if __name__ == "__main__":
+    unittest.main()
