@@ -77,13 +77,16 @@ def held_keys(record):
     return sorted([key for key in held if held[key]])
 
 
-def check_record(value):
-    """Raise InvalidRecord, with the first wrong index, unless the value is a record."""
+def check_record(value, many=None):
+    """Raise InvalidRecord, with the first wrong index, unless the value is a record.
+
+    With many, only the keys below it may occur.
+    """
     if not is_short_list(value):
         raise InvalidRecord(None)
     held = {}
     for index, event in enumerate(value):
-        if not is_event(event):
+        if not is_event(event) or not is_below(event[1], many):
             raise InvalidRecord(index)
         if index > 0 and event[0] < value[index - 1][0]:
             raise InvalidRecord(index)
@@ -120,6 +123,11 @@ def is_step(value):
         return False
     key, way = value
     return is_an_integer(key) and key >= 0 and isinstance(way, str) and way in ("down", "up")
+
+
+def is_below(key, many):
+    """Whether the key is one of so many keys; None stands for any number of keys."""
+    return many is None or key < many
 
 
 def takes_turn(held, key, way):

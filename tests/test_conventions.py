@@ -1,7 +1,7 @@
 import copy
 import unittest
 
-from holdtap import errors, layouts, records
+from holdtap import board, errors, lateness, layouts, playing, records
 from holdtap.errors import HoldError, InvalidLayout, InvalidRecord
 
 LAYOUT = [
@@ -10,6 +10,12 @@ LAYOUT = [
 ]
 RECORD = [(0, 0, "down"), (1, 1, "down"), (2, 1, "up"), (4, 0, "up")]
 ORDER = [(0, "down"), (1, "down"), (1, "up"), (0, "up")]
+
+
+def walked(layout, record):
+    return list(board.walk_outputs(layout, record))
+
+
 WRONG = [[["through", "bad"]], [(0, 0, "down"), (0, 0, "down")], [(0, "down"), None], [], None]
 
 CALLS = [
@@ -28,6 +34,18 @@ CALLS = [
     (records.ended, [[]]),
     (records.lengths, [[]]),
     (records.with_ticks, [ORDER, [0, 0, 7, 9]]),
+    (playing.played, [LAYOUT, RECORD]),
+    (playing.played, [LAYOUT, []]),
+    (playing.flat, [LAYOUT, RECORD]),
+    (playing.meanings, [LAYOUT, RECORD]),
+    (playing.sure_by, [LAYOUT, RECORD]),
+    (playing.layers_on, [LAYOUT, RECORD[:2]]),
+    (playing.codes_down, [LAYOUT, RECORD[:2]]),
+    (board.outputs, [LAYOUT, RECORD]),
+    (walked, [LAYOUT, RECORD]),
+    (board.waiting_at, [LAYOUT, RECORD, 2]),
+    (lateness.done_ticks, [LAYOUT, RECORD]),
+    (lateness.held_by, [LAYOUT, RECORD]),
 ]
 
 
@@ -54,6 +72,9 @@ class TestConventions(unittest.TestCase):
                 "is_record", "is_order", "is_whole", "order_of", "lengths", "ended", "with_ticks",
             ],
             errors: ["HoldError"],
+            playing: ["played", "flat", "meanings", "sure_by", "layers_on", "codes_down"],
+            board: ["outputs", "walk_outputs", "waiting_at"],
+            lateness: ["done_ticks", "held_by"],
         }
         for module, listed in names.items():
             for name in listed:
@@ -167,6 +188,26 @@ class TestConventions(unittest.TestCase):
         with self.assertRaises(InvalidRecord) as caught:
             records.lengths(record)
         self.assertEqual(caught.exception.index, 4)
+
+    def test_what_was_changed_in_place_is_played_as_it_is(self):
+        layout, record = copy.deepcopy(LAYOUT), list(RECORD)
+        self.assertEqual(playing.flat(layout, record)[0], ("press", "a"))
+        self.assertEqual(lateness.done_ticks(layout, record), [4, 4, 4, 4])
+        layout[0][0] = ("dual", "a", ("layer", 1), 4, "time")
+        self.assertEqual(playing.flat(layout, record)[0], ("press", "1"))
+        self.assertEqual(board.outputs(layout, record), [(4, "press", "1"), (4, "release", "1")])
+        record[3] = (3, 0, "up")
+        self.assertEqual(playing.flat(layout, record)[0], ("press", "a"))
+        self.assertEqual(walked(layout, record)[0], (3, "press", "a"))
+        self.assertEqual(board.waiting_at(layout, record, 2), [0, 1, 2])
+        layout[0][0] = ("code", "b")
+        self.assertEqual(board.waiting_at(layout, record, 2), [])
+        self.assertEqual(lateness.held_by(layout, record), [None] * 4)
+        self.assertEqual(playing.codes_down(layout, record[:1]), ["b"])
+        record[0] = (0, 3, "down")
+        with self.assertRaises(InvalidRecord) as caught:
+            playing.sure_by(layout, record)
+        self.assertEqual(caught.exception.index, 0)
 
     def test_an_order_that_was_changed_in_place_is_judged_as_it_is(self):
         order = list(ORDER)
