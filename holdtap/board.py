@@ -1,5 +1,6 @@
 """The board: what a record gives with a clock, and which events wait at a tick."""
 
+from holdtap.clocked import come_all, run_out
 from holdtap.errors import InvalidTick
 from holdtap.integers import is_an_integer
 from holdtap.playing import check_playable
@@ -10,12 +11,7 @@ def outputs(layout, record):
     """The outputs (tick, word, code), each with the tick at which its event is done."""
     check_playable(layout, record)
     row = Row(layout)
-    out = come_all(row, record)
-    due = row.due()
-    while due is not None:
-        out.extend(row.clock(due))
-        due = row.due()
-    return out
+    return come_all(row, record) + run_out(row)
 
 
 def walk_outputs(layout, record):
@@ -34,12 +30,3 @@ def waiting_at(layout, record, tick):
     come_all(row, come)
     row.clock(tick)
     return list(range(len(come) - len(row.events), len(come)))
-
-
-def come_all(row, events):
-    """Let the events come to the row at their ticks; return the outputs that come out."""
-    out = []
-    for event in events:
-        out.extend(row.clock(event[0]))
-        out.extend(row.come(event))
-    return out

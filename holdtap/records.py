@@ -94,13 +94,18 @@ def check_record(value, many=None):
             raise InvalidRecord(index)
 
 
-def check_order(value):
-    """Raise InvalidOrder, with the first wrong index, unless the value is an order."""
+def check_order(value, many=None):
+    """Raise InvalidOrder, with the first wrong index, unless the value is an order.
+
+    With many, only the keys below it may occur.
+    """
     if not is_short_list(value):
         raise InvalidOrder(None)
     held = {}
     for index, step in enumerate(value):
-        if not is_step(step) or not takes_turn(held, step[0], step[1]):
+        if not is_step(step) or not is_below(step[0], many):
+            raise InvalidOrder(index)
+        if not takes_turn(held, step[0], step[1]):
             raise InvalidOrder(index)
 
 

@@ -1,7 +1,9 @@
 import copy
 import unittest
 
-from holdtap import board, errors, lateness, layouts, playing, records
+from holdtap import (
+    board, combos, differences, errors, lateness, layouts, live, playing, records, timings,
+)
 from holdtap.errors import HoldError, InvalidLayout, InvalidRecord
 
 LAYOUT = [
@@ -10,10 +12,30 @@ LAYOUT = [
 ]
 RECORD = [(0, 0, "down"), (1, 1, "down"), (2, 1, "up"), (4, 0, "up")]
 ORDER = [(0, "down"), (1, "down"), (1, "up"), (0, "up")]
+COMBOS = [((0, 1), 3, "q"), ((0, 1, 2), 9, "w")]
+BOUNDS = [(0, 1, 0), (1, 2, 5), (2, 3, 0), (3, 0, -7)]
+TAPPED = [("press", "a"), ("press", "x"), ("release", "x"), ("release", "a")]
+NESTED = [[("dual", "a", ("code", "b"), 5, "time"), ("dual", "c", ("code", "d"), 5, "time")]]
 
 
 def walked(layout, record):
     return list(board.walk_outputs(layout, record))
+
+
+def live_calls(layout, joined):
+    """What comes out of a board, and its state."""
+    board_ = live.Board(layout, joined)
+    out = [getattr(board_, way)(key, tick) for tick, key, way in RECORD]
+    return out + [board_.clock(30), board_.record, board_.layers, board_.codes]
+
+
+def live_record(layout, record):
+    board_ = live.Board.of(layout, record)
+    return [board_.record, board_.layers, board_.codes, board_.fork().record]
+
+
+def gapped(layout, order, gap, most):
+    return timings.choices(layout, order, gap=gap, most=most)
 
 
 WRONG = [[["through", "bad"]], [(0, 0, "down"), (0, 0, "down")], [(0, "down"), None], [], None]
@@ -46,6 +68,28 @@ CALLS = [
     (board.waiting_at, [LAYOUT, RECORD, 2]),
     (lateness.done_ticks, [LAYOUT, RECORD]),
     (lateness.held_by, [LAYOUT, RECORD]),
+    (combos.is_combos, [COMBOS, 3]),
+    (combos.pieces, [3, COMBOS, RECORD]),
+    (combos.gated, [3, COMBOS, RECORD]),
+    (combos.gated, [3, [], RECORD]),
+    (combos.with_combos, [LAYOUT, COMBOS]),
+    (combos.with_combos, [LAYOUT, []]),
+    (live_calls, [LAYOUT, COMBOS]),
+    (live_calls, [LAYOUT, None]),
+    (live_record, [LAYOUT, RECORD]),
+    (differences.is_bounds, [BOUNDS, 4]),
+    (differences.holds, [4, BOUNDS, [0, 0, 5, 5]]),
+    (differences.least_numbers, [4, BOUNDS]),
+    (differences.ring_of, [4, BOUNDS[:3] + [(3, 0, -4)]]),
+    (differences.is_ring, [4, BOUNDS[:3] + [(3, 0, -4)], [0, 1, 2, 3]]),
+    (differences.least_difference, [4, BOUNDS, 0, 3]),
+    (timings.choices, [LAYOUT, ORDER]),
+    (timings.choices, [LAYOUT, []]),
+    (gapped, [LAYOUT, ORDER, 1, 4]),
+    (timings.results, [LAYOUT, ORDER]),
+    (timings.sure_outputs, [LAYOUT, ORDER]),
+    (timings.ticks_for, [LAYOUT, ORDER, TAPPED]),
+    (timings.why_not, [NESTED, ORDER, ("tap", "hold")]),
 ]
 
 
@@ -75,11 +119,24 @@ class TestConventions(unittest.TestCase):
             playing: ["played", "flat", "meanings", "sure_by", "layers_on", "codes_down"],
             board: ["outputs", "walk_outputs", "waiting_at"],
             lateness: ["done_ticks", "held_by"],
+            combos: ["is_combos", "pieces", "gated", "with_combos"],
+            live: ["Board"],
+            differences: [
+                "is_bounds", "holds", "least_numbers", "ring_of", "is_ring", "least_difference",
+            ],
+            timings: ["choices", "results", "sure_outputs", "ticks_for", "why_not"],
         }
         for module, listed in names.items():
             for name in listed:
                 with self.subTest(name):
                     self.assertEqual(getattr(module, name).__module__, module.__name__)
+
+    def test_the_methods_of_a_board_stand_in_its_class(self):
+        for name in ("down", "up", "clock", "undo", "fork", "of", "__len__", "__eq__", "__init__"):
+            self.assertIn(name, vars(live.Board))
+        for name in ("record", "now", "waiting", "layers", "codes"):
+            self.assertIsInstance(vars(live.Board)[name], property)
+        self.assertIsInstance(vars(live.Board)["of"], classmethod)
 
     def test_arguments_are_not_modified(self):
         for call, args in CALLS:
@@ -217,7 +274,32 @@ class TestConventions(unittest.TestCase):
         order[3] = (1, "down")
         self.assertEqual(records.with_ticks(order, [1, 1, 1, 1])[3], (1, 1, "down"))
 
+    def test_combos_bounds_and_orders_that_were_changed_in_place(self):
+        joined, bounds, order = list(COMBOS), list(BOUNDS), list(ORDER)
+        self.assertEqual(combos.pieces(3, joined, RECORD), [[0, 1]])
+        joined[0] = ((0, 2), 3, "q")
+        self.assertEqual(combos.pieces(3, joined, RECORD), [[0], [1]])
+        joined.append(((0, 2), 5, "r"))
+        self.assertIs(combos.is_combos(joined, 3), False)
+        self.assertEqual(differences.least_numbers(4, bounds), [0, 0, 5, 5])
+        bounds[1] = (1, 2, 7)
+        self.assertEqual(differences.least_numbers(4, bounds), [0, 0, 7, 7])
+        bounds[1] = (1, 2, 8)
+        self.assertIsNone(differences.least_numbers(4, bounds))
+        bounds[1] = None
+        self.assertIs(differences.is_bounds(bounds, 4), False)
+        self.assertEqual(len(timings.choices(NESTED, order)), 3)
+        order[2], order[3] = order[3], order[2]
+        self.assertEqual(len(timings.choices(NESTED, order)), 4)
+        order.pop()
+        self.assertEqual(len(timings.choices(NESTED, order)), 2)
+
     def test_returned_values_are_accepted(self):
+        self.assertEqual(playing.flat(combos.with_combos(LAYOUT, COMBOS), combos.gated(3, COMBOS, RECORD)),
+                         [("press", "q"), ("release", "q")])
+        self.assertEqual(timings.ticks_for(LAYOUT, ORDER, timings.results(LAYOUT, ORDER)[1]), [0, 0, 0, 5])
+        ring = timings.why_not(NESTED, ORDER, ("tap", "hold"))
+        self.assertIsNone(differences.least_numbers(4, ring))
         changed = layouts.with_action(LAYOUT, 0, 1, "none")
         self.assertEqual(layouts.with_action(changed, 0, 1, ("code", "x")), LAYOUT)
         for many in range(5):

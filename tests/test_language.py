@@ -1,6 +1,7 @@
 """Checks those rules of the language that can be read off the files of the package."""
 
 import ast
+import builtins
 import pathlib
 import unittest
 
@@ -10,10 +11,49 @@ BUILTINS = set(
     "len range enumerate zip min max sum abs sorted reversed int str bool list tuple dict set "
     "isinstance ord repr any all divmod super map ValueError TypeError KeyError".split()
 )
+NO_NAMES = set(
+    "register mro elements open input law version_info with_traceback add_note attrgetter breakpoint "
+    "compile copyright credits delattr dir eval exec exit gc globals help id importlib license locals "
+    "methodcaller os quit setattr super type vars sys _cold _tuplegetter _outside _record "
+    "_written_out _member_names".split()
+)
+NO_ATTRIBUTES = set(
+    "items keys values pop update append clear extend insert remove reverse setdefault sort args "
+    "encode decode hex fromhex format format_map mro".split()
+)
+KINDS_OF_NODES = (
+    ast.GeneratorExp, ast.Global, ast.AsyncFunctionDef, ast.Await, ast.Div, ast.SetComp, ast.Set,
+    ast.With, ast.Match, ast.Lambda, ast.Starred, ast.NamedExpr, ast.AnnAssign,
+)
 
 
 def python_files():
     return [path for path in FILES if path.suffix == ".py"]
+
+
+def trees():
+    return [(path, ast.parse(path.read_text())) for path in python_files()]
+
+
+def bound_names(function):
+    """The names of the parameters, variables and nested functions of a function."""
+    names = [node.arg for node in ast.walk(function) if isinstance(node, ast.arg)]
+    for node in ast.walk(function):
+        if isinstance(node, ast.Name) and isinstance(node.ctx, ast.Store):
+            names.append(node.id)
+        if isinstance(node, ast.FunctionDef) and node is not function:
+            names.append(node.name)
+        if isinstance(node, ast.ExceptHandler) and node.name:
+            names.append(node.name)
+    return names
+
+
+def functions(tree):
+    return [node for node in ast.walk(tree) if isinstance(node, ast.FunctionDef)]
+
+
+def imported_modules(tree):
+    return [node.module for node in tree.body if isinstance(node, ast.ImportFrom)]
 
 
 class TestLanguage(unittest.TestCase):
@@ -78,10 +118,64 @@ class TestLanguage(unittest.TestCase):
                     known.add(node.name)
                 if isinstance(node, ast.ImportFrom):
                     known.update(alias.name for alias in node.names)
+                if isinstance(node, ast.FunctionDef) and node.decorator_list:
+                    known.add("cls")
             for node in ast.walk(tree):
                 if isinstance(node, ast.Call) and isinstance(node.func, ast.Name):
                     with self.subTest(path.name, line=node.lineno):
                         self.assertIn(node.func.id, known)
+
+    def test_only_plain_parts_of_the_language_are_used(self):
+        for path, tree in trees():
+            for node in ast.walk(tree):
+                with self.subTest(path.name, line=getattr(node, "lineno", None)):
+                    self.assertNotIsInstance(node, KINDS_OF_NODES)
+                    if isinstance(node, ast.Compare):
+                        for sign, right in zip(node.ops, node.comparators):
+                            if isinstance(sign, (ast.Is, ast.IsNot)):
+                                self.assertIn(ast.unparse(right), ("None", "True", "False"))
+                    if isinstance(node, ast.FunctionDef):
+                        decorators = [ast.unparse(one) for one in node.decorator_list]
+                        self.assertIn(decorators, ([], ["property"], ["classmethod"]))
+
+    def test_names_have_one_meaning(self):
+        for path, tree in trees():
+            taken = {node.name for node in tree.body if isinstance(node, ast.ClassDef)}
+            for node in tree.body:
+                if isinstance(node, ast.ImportFrom):
+                    taken.update(alias.name for alias in node.names)
+            for function in functions(tree):
+                for name in bound_names(function):
+                    with self.subTest(path.name, function=function.name, name=name):
+                        self.assertNotIn(name, taken | NO_NAMES)
+                        self.assertFalse(hasattr(builtins, name))
+                self.assertFalse(any(
+                    isinstance(node, ast.Name) and node.id == "_" and isinstance(node.ctx, ast.Load)
+                    for node in ast.walk(function)
+                ))
+
+    def test_names_of_attributes_and_methods(self):
+        methods, attributes = set(), set()
+        for path, tree in trees():
+            for node in ast.walk(tree):
+                if isinstance(node, ast.ClassDef):
+                    methods.update(part.name for part in node.body if isinstance(part, ast.FunctionDef))
+                if isinstance(node, ast.Attribute) and isinstance(node.ctx, ast.Store):
+                    attributes.add(node.attr)
+        self.assertEqual(methods & attributes, set())
+        self.assertEqual(attributes & (NO_ATTRIBUTES | NO_NAMES), set())
+        self.assertEqual(methods & (NO_ATTRIBUTES | NO_NAMES), set())
+
+    def test_no_two_files_import_from_each_other(self):
+        behind = {"holdtap." + path.stem: imported_modules(tree) for path, tree in trees()}
+        for start in behind:
+            reached, rest = set(), list(behind[start])
+            while rest:
+                module = rest.pop()
+                if module not in reached:
+                    reached.add(module)
+                    rest.extend(behind[module])
+            self.assertNotIn(start, reached)
 
 
 if __name__ == "__main__":
