@@ -40,11 +40,10 @@ class Gate:
         tick, key, way = event
         if way == "up":
             return self.come_up(tick, key)
-        out = []
-        while self.downs and not self.fits(tick, key):
-            out.append(self.send_piece(tick))
+        # A row with a down that no combo fits is over, and each of its first pieces is one of the
+        # row ahead of the down: so they leave, until the down fits or stands alone.
         self.downs.append((tick, key))
-        return out + self.let_leave(tick)
+        return self.let_leave(tick)
 
     def come_up(self, tick, key):
         """Let an up come: the whole row leaves ahead of it."""
@@ -58,12 +57,6 @@ class Gate:
             if self.sent[other] == sent:
                 self.sent[other] = None
         return out + [(tick, sent, "up")]
-
-    def fits(self, tick, key):
-        """Whether some combo fits the row with a down of this key behind it."""
-        keys = [other for _, other in self.downs] + [key]
-        start = self.downs[0][0]
-        return any([has_all(combo, keys) and tick < start + combo[1] for combo in self.combos])
 
     def let_leave(self, now):
         """Let pieces leave at this tick until the row is not over."""

@@ -177,6 +177,7 @@ class TestLeastNumbers(unittest.TestCase):
             self.assertEqual(ring_of(1, [(0, 0, d)]), [0])
             self.assertIs(is_ring(1, [(0, 0, d)], [0]), True)
             self.assertIs(is_ring(1, [(0, 0, d)], [0] * 400), True)
+            self.assertIs(is_ring(1, [(0, 0, d)], [0] * 401), False)
             with self.assertRaises(InvalidBounds):
                 least_difference(1, [(0, 0, d)], 0, 0)
 

@@ -200,6 +200,16 @@ class TestResults(unittest.TestCase):
         self.assertEqual(ticks_for(layout, order, result, gap=5), [0, 5, 10, 15])
         self.assertIsNone(ticks_for(layout, order, result, most=2))
 
+    def test_without_gap_and_most_events_can_be_at_one_tick_and_far_apart(self):
+        tap, hold = [("press", "a"), ("release", "a")], [("press", "b"), ("release", "b")]
+        for time in (1, 10 ** 9):
+            layout = [[dual(time)]]
+            self.assertEqual([ticks for choice, ticks in choices(layout, taps([0]))], [[0, 0], [0, time]])
+            self.assertEqual(results(layout, taps([0])), [tap, hold])
+            self.assertEqual(sure_outputs(layout, taps([0])), [None, None])
+            self.assertEqual(ticks_for(layout, taps([0]), tap), [0, 0])
+            self.assertEqual(ticks_for(layout, taps([0]), hold), [0, time])
+
     def test_gap_and_most_change_the_results(self):
         tap, hold = [("press", "a"), ("release", "a")], [("press", "b"), ("release", "b")]
         layout = [[dual(5)]]
