@@ -1,7 +1,8 @@
 """Playing an order, in which a choice tells what the presses of duals are."""
 
+from holdtap.differences import least_above
 from holdtap.layouts import is_dual
-from holdtap.player import Player, deciding_event, what_is_done
+from holdtap.player import Player, deciding_up, what_is_done
 
 
 class Choosing:
@@ -41,7 +42,7 @@ class Choosing:
             layer, action = self.player.taken(key)
             if not is_dual(action):
                 self.result.append(self.player.press(key, action))
-            elif self.deciding_up(at, action) is None:
+            elif deciding_up(self.events, at, action) is None:
                 self.result.append(self.player.press(key, what_is_done(action, "hold")))
             else:
                 return
@@ -51,7 +52,7 @@ class Choosing:
         at = len(self.result)
         tick, key, way = self.events[at]
         layer, dual = self.player.taken(key)
-        up = self.deciding_up(at, dual)
+        up = deciding_up(self.events, at, dual)
         if kind == "tap":
             self.bounds.append((up, at, 1 - dual[3]))
         else:
@@ -59,13 +60,6 @@ class Choosing:
         self.kinds.append(kind)
         self.result.append(self.player.press(key, what_is_done(dual, kind)))
         self.go_on()
-
-    def deciding_up(self, at, dual):
-        """The number of the up of the press of a dual if that is its deciding event."""
-        number = deciding_event(self.events, at, dual[4])
-        if number is None or self.events[number][1] != self.events[at][1]:
-            return None
-        return number
 
 
 def chosen(layout, order, choice):
@@ -78,3 +72,41 @@ def chosen(layout, order, choice):
             return None
         play.choose(kind)
     return play if play.at_end() else None
+
+
+def possible_plays(layout, order, ticks, bounds, latest=None):
+    """The choices that are possible with ticks that fulfil the bounds: tuples (play, least ticks).
+
+    No tick is less than that in ticks or, if latest is given, greater than that in latest.
+    Taps come ahead of holds.
+    """
+    found = []
+    begun = []
+    least = least_ticks(ticks, bounds, latest)
+    if least is not None:
+        begun.append((Choosing(layout, order), least))
+    while begun:
+        play, least = begun.pop()
+        if play.at_end():
+            found.append((play, least))
+            continue
+        # What is put down last is taken up first: the tap with all that follows it.
+        for kind in ("hold", "tap"):
+            branch = play.twin()
+            branch.choose(kind)
+            # Further bounds only raise the least ticks, so these can begin with those so far.
+            raised = least_ticks(least, bounds + branch.bounds, latest)
+            if raised is not None:
+                begun.append((branch, raised))
+    return found
+
+
+def least_ticks(ticks, bounds, latest):
+    """The least ticks from these on that fulfil the bounds and are not behind the latest, or None."""
+    least = least_above(ticks, bounds)
+    if least is None or latest is None:
+        return least
+    # None of these ticks can be less, so one that is too late is too late in all ways.
+    if any([tick > end for tick, end in zip(least, latest)]):
+        return None
+    return least

@@ -3,7 +3,7 @@
 from holdtap.clocked import come_all, run_out
 from holdtap.errors import InvalidCombos, InvalidKey, TooLarge
 from holdtap.gate import Gate, first_piece
-from holdtap.integers import is_between
+from holdtap.integers import are_ascending, is_between
 from holdtap.layouts import check_layout, is_code
 from holdtap.records import check_record
 
@@ -110,8 +110,4 @@ def is_combo(value, many):
 
 def are_combo_keys(value, many):
     """Whether any value is an ascending tuple of 2 or 3 of so many keys."""
-    if not isinstance(value, tuple) or not 2 <= len(value) <= 3:
-        return False
-    if not all([is_between(key, 0, many - 1) for key in value]):
-        return False
-    return all([value[at - 1] < value[at] for at in range(1, len(value))])
+    return isinstance(value, tuple) and 2 <= len(value) <= 3 and are_ascending(value, many)

@@ -57,6 +57,12 @@ def with_action(layout, layer, key, action):
     return changed
 
 
+def with_time(layout, layer, key, time):
+    """A new layout in which the dual at this place has this time."""
+    word, tap, hold, _, rule = layout[layer][key]
+    return with_action(layout, layer, key, (word, tap, hold, time, rule))
+
+
 def check_layout(value):
     """Raise InvalidLayout, with the first wrong place, unless the value is a layout."""
     if not has_layout_form(value):

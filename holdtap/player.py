@@ -89,6 +89,14 @@ def deciding_event(record, at, rule):
     return None
 
 
+def deciding_up(record, at, dual):
+    """The number of the up of the press of a dual if that is its deciding event; otherwise None."""
+    number = deciding_event(record, at, dual[4])
+    if number is None or record[number][1] != record[at][1]:
+        return None
+    return number
+
+
 def sure_event(record, at, dual):
     """The number of the deciding event if it comes before the time of the dual is over."""
     number = deciding_event(record, at, dual[4])

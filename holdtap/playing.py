@@ -1,6 +1,7 @@
 """Playing: what a record gives with a layout, when the whole record is known ahead."""
 
 from holdtap.layouts import check_layout
+from holdtap.outputs import outputs_alone
 from holdtap.player import play
 from holdtap.records import check_record
 
@@ -14,7 +15,7 @@ def played(layout, record):
 
 def flat(layout, record):
     """The outputs alone."""
-    return [output for output in played(layout, record) if output != ()]
+    return outputs_alone(played(layout, record))
 
 
 def meanings(layout, record):

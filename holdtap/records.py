@@ -88,9 +88,7 @@ def check_record(value, many=None):
     for index, event in enumerate(value):
         if not is_event(event) or not is_below(event[1], many):
             raise InvalidRecord(index)
-        if index > 0 and event[0] < value[index - 1][0]:
-            raise InvalidRecord(index)
-        if not takes_turn(held, event[1], event[2]):
+        if not can_follow(event, value[index - 1] if index > 0 else None, held):
             raise InvalidRecord(index)
 
 
@@ -133,6 +131,16 @@ def is_step(value):
 def is_below(key, many):
     """Whether the key is one of so many keys; None stands for any number of keys."""
     return many is None or key < many
+
+
+def can_follow(event, last, held):
+    """Whether an event can stand behind the last one, None if it is the first.
+
+    If so, held, the keys that are down so far, tells its key from now on.
+    """
+    if last is not None and event[0] < last[0]:
+        return False
+    return takes_turn(held, event[1], event[2])
 
 
 def takes_turn(held, key, way):

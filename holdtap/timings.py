@@ -1,10 +1,11 @@
 """All timings of an order: the choices that are possible, with their least ticks and results."""
 
-from holdtap.choosing import Choosing, chosen
-from holdtap.differences import find_ring, least_above
+from holdtap.choosing import chosen, possible_plays
+from holdtap.differences import find_ring
 from holdtap.errors import InvalidChoice, InvalidGap, TooLarge
 from holdtap.integers import is_between
 from holdtap.layouts import check_layout, duals
+from holdtap.outputs import are_outputs
 from holdtap.records import check_order
 
 GREATEST_GAP = 10 ** 9
@@ -44,7 +45,7 @@ def sure_outputs(layout, order, *, gap=0, most=None):
 def ticks_for(layout, order, result, *, gap=0, most=None):
     """The least ticks of the first possible choice with this result, None if there is none."""
     check_timing(layout, order, gap, most)
-    if not is_result(result):
+    if not are_outputs(result):
         return None
     for choice, ticks, found in possible(layout, order, gap, most):
         if found == result:
@@ -70,22 +71,8 @@ def why_not(layout, order, choice):
 def possible(layout, order, gap, most):
     """The possible choices, in order, as tuples (choice, least ticks, result)."""
     steps = distances(len(order), gap, most)
-    found = []
-    begun = [(Choosing(layout, order), least_above([0] * len(order), steps))]
-    while begun:
-        play, ticks = begun.pop()
-        if play.at_end():
-            found.append((tuple(play.kinds), ticks, play.result))
-            continue
-        # What is put down last is taken up first: the tap with all that follows it.
-        for kind in ("hold", "tap"):
-            branch = play.twin()
-            branch.choose(kind)
-            # Further bounds only raise the least ticks, so these can begin with those so far.
-            least = least_above(ticks, steps + branch.bounds)
-            if least is not None:
-                begun.append((branch, least))
-    return found
+    plays = possible_plays(layout, order, [0] * len(order), steps)
+    return [(tuple(play.kinds), ticks, play.result) for play, ticks in plays]
 
 
 def distances(many, gap, most):
@@ -94,13 +81,6 @@ def distances(many, gap, most):
     if most is not None:
         bounds = bounds + [(at + 1, at, -most) for at in reversed(range(many - 1))]
     return bounds
-
-
-def is_result(value):
-    """Whether any value is a list of tuples of strings, as results are."""
-    if not isinstance(value, list) or not all([isinstance(output, tuple) for output in value]):
-        return False
-    return all([isinstance(part, str) for output in value for part in output])
 
 
 def check_timing(layout, order, gap, most):

@@ -2,7 +2,8 @@ import copy
 import unittest
 
 from holdtap import (
-    board, combos, differences, errors, lateness, layouts, live, playing, records, timings,
+    board, combos, differences, errors, halves, lateness, layouts, live, playing, records, slack, times,
+    timings,
 )
 from holdtap.errors import HoldError, InvalidLayout, InvalidRecord
 
@@ -15,6 +16,10 @@ ORDER = [(0, "down"), (1, "down"), (1, "up"), (0, "up")]
 COMBOS = [((0, 1), 3, "q"), ((0, 1, 2), 9, "w")]
 BOUNDS = [(0, 1, 0), (1, 2, 5), (2, 3, 0), (3, 0, -7)]
 TAPPED = [("press", "a"), ("press", "x"), ("release", "x"), ("release", "a")]
+SHAKEN = [(-1, 0, "down"), (1, 1, "down"), (2, 1, "up"), (5, 0, "up")]
+HELD = [(), ("press", "1"), ("release", "1"), ()]
+WISHES = [(RECORD, TAPPED), ([(0, 0, "down"), (9, 0, "up")], [(), ()])]
+CLASHING = [(RECORD, TAPPED), (RECORD, TAPPED), (RECORD, HELD)]
 NESTED = [[("dual", "a", ("code", "b"), 5, "time"), ("dual", "c", ("code", "d"), 5, "time")]]
 
 
@@ -90,6 +95,19 @@ CALLS = [
     (timings.sure_outputs, [LAYOUT, ORDER]),
     (timings.ticks_for, [LAYOUT, ORDER, TAPPED]),
     (timings.why_not, [NESTED, ORDER, ("tap", "hold")]),
+    (slack.slack, [LAYOUT, RECORD]),
+    (slack.shaken, [LAYOUT, RECORD]),
+    (slack.shaken, [LAYOUT, RECORD[:3] + [(9, 0, "up")]]),
+    (slack.is_shaken, [LAYOUT, RECORD, SHAKEN, 1]),
+    (times.by_time, [LAYOUT, RECORD, 0, 0]),
+    (times.good_times, [LAYOUT, WISHES, 0, 0]),
+    (times.best_time, [LAYOUT, WISHES, 0, 0]),
+    (times.clash, [LAYOUT, CLASHING, 0, 0]),
+    (times.is_clash, [LAYOUT, CLASHING, 0, 0, [0, 2]]),
+    (halves.late_results, [LAYOUT, RECORD, [1], 3]),
+    (halves.delays_for, [LAYOUT, RECORD, [1], 3, TAPPED]),
+    (halves.delays_for, [LAYOUT, [], [1], 3, []]),
+    (halves.safe_late, [LAYOUT, RECORD, [1], 100]),
 ]
 
 
@@ -125,6 +143,9 @@ class TestConventions(unittest.TestCase):
                 "is_bounds", "holds", "least_numbers", "ring_of", "is_ring", "least_difference",
             ],
             timings: ["choices", "results", "sure_outputs", "ticks_for", "why_not"],
+            slack: ["slack", "shaken", "is_shaken"],
+            times: ["by_time", "good_times", "best_time", "clash", "is_clash"],
+            halves: ["late_results", "delays_for", "safe_late"],
         }
         for module, listed in names.items():
             for name in listed:
@@ -294,10 +315,42 @@ class TestConventions(unittest.TestCase):
         order.pop()
         self.assertEqual(len(timings.choices(NESTED, order)), 2)
 
+    def test_records_wishes_and_keys_that_were_changed_in_place(self):
+        layout, record, keys = copy.deepcopy(LAYOUT), list(RECORD), [1]
+        self.assertEqual(slack.slack(layout, record), 0)
+        self.assertEqual(halves.safe_late(layout, record, keys, 100), 2)
+        record[3] = (9, 0, "up")
+        self.assertEqual(slack.slack(layout, record), 2)
+        self.assertEqual(len(halves.late_results(layout, record, keys, 8)), 1)
+        self.assertEqual(len(halves.late_results(layout, record, keys, 9)), 2)
+        keys[0] = 0
+        self.assertEqual(len(halves.late_results(layout, record, keys, 3)), 2)
+        keys.append(0)
+        self.assertEqual(outcome(halves.safe_late, [layout, record, keys, 3])[0], "InvalidKey")
+        layout[0][0] = ("dual", "a", ("layer", 1), 9, "within")
+        self.assertIsNone(slack.slack(layout, record))
+        self.assertIs(slack.is_shaken(layout, record, SHAKEN, 4), False)
+        wishes = [(RECORD, list(TAPPED))]
+        self.assertEqual(times.good_times(LAYOUT, wishes, 0, 0), [(5, 10 ** 9)])
+        wishes[0][1][0] = ("press", "b")
+        self.assertEqual(times.good_times(LAYOUT, wishes, 0, 0), [])
+        self.assertEqual(times.clash(LAYOUT, wishes, 0, 0), [0])
+        wishes[0][1].pop()
+        self.assertEqual(outcome(times.best_time, [LAYOUT, wishes, 0, 0])[0], "InvalidWishes")
+
     def test_returned_values_are_accepted(self):
         self.assertEqual(playing.flat(combos.with_combos(LAYOUT, COMBOS), combos.gated(3, COMBOS, RECORD)),
                          [("press", "q"), ("release", "q")])
         self.assertEqual(timings.ticks_for(LAYOUT, ORDER, timings.results(LAYOUT, ORDER)[1]), [0, 0, 0, 5])
+        moved = slack.shaken(LAYOUT, RECORD)
+        self.assertEqual(playing.played(LAYOUT, moved), HELD)
+        self.assertIs(slack.is_shaken(LAYOUT, moved, RECORD, 1), True)
+        first, last, result = times.by_time(LAYOUT, RECORD, 0, 0)[1]
+        self.assertEqual(times.good_times(LAYOUT, [(RECORD, result)], 0, 0), [(first, last)])
+        found = times.clash(LAYOUT, CLASHING, 0, 0)
+        self.assertIs(times.is_clash(LAYOUT, CLASHING, 0, 0, found), True)
+        for result in halves.late_results(LAYOUT, RECORD, [0, 1], 5):
+            self.assertEqual(len(halves.delays_for(LAYOUT, RECORD, [0, 1], 5, result)), 4)
         ring = timings.why_not(NESTED, ORDER, ("tap", "hold"))
         self.assertIsNone(differences.least_numbers(4, ring))
         changed = layouts.with_action(LAYOUT, 0, 1, "none")

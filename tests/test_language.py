@@ -92,10 +92,12 @@ class TestLanguage(unittest.TestCase):
             for node in ast.parse(path.read_text()).body:
                 if isinstance(node, ast.ImportFrom):
                     source = PACKAGE.parent / (node.module.replace(".", "/") + ".py")
-                    own = {
-                        thing.name for thing in ast.parse(source.read_text()).body
-                        if isinstance(thing, (ast.FunctionDef, ast.ClassDef))
-                    }
+                    own = set()
+                    for thing in ast.parse(source.read_text()).body:
+                        if isinstance(thing, (ast.FunctionDef, ast.ClassDef)):
+                            own.add(thing.name)
+                        if isinstance(thing, ast.Assign):
+                            own.update(target.id for target in thing.targets)
                     for alias in node.names:
                         with self.subTest(path.name, imported=alias.name):
                             self.assertIn(alias.name, own)
@@ -120,6 +122,9 @@ class TestLanguage(unittest.TestCase):
                     known.update(alias.name for alias in node.names)
                 if isinstance(node, ast.FunctionDef) and node.decorator_list:
                     known.add("cls")
+                if isinstance(node, ast.Assign) and isinstance(node.value, ast.Subscript):
+                    if ast.unparse(node.value.value).isupper():
+                        known.add(node.targets[0].id)
             for node in ast.walk(tree):
                 if isinstance(node, ast.Call) and isinstance(node.func, ast.Name):
                     with self.subTest(path.name, line=node.lineno):
