@@ -2,8 +2,8 @@ import copy
 import unittest
 
 from holdtap import (
-    board, combos, differences, errors, halves, lateness, layouts, live, playing, records, slack, times,
-    timings,
+    board, combos, compare, console, differences, errors, halves, lateness, layouts, live, playing, records,
+    slack, texts, times, timings, typed,
 )
 from holdtap.errors import HoldError, InvalidLayout, InvalidRecord
 
@@ -16,6 +16,8 @@ ORDER = [(0, "down"), (1, "down"), (1, "up"), (0, "up")]
 COMBOS = [((0, 1), 3, "q"), ((0, 1, 2), 9, "w")]
 BOUNDS = [(0, 1, 0), (1, 2, 5), (2, 3, 0), (3, 0, -7)]
 TAPPED = [("press", "a"), ("press", "x"), ("release", "x"), ("release", "a")]
+QUICK = [[("dual", "a", ("layer", 1), 3, "time"), ("code", "x")], ["through", ("code", "1")]]
+SLOW = [[("dual", "a", ("layer", 1), 4, "time"), ("code", "x")], ["through", ("code", "1")]]
 SHAKEN = [(-1, 0, "down"), (1, 1, "down"), (2, 1, "up"), (5, 0, "up")]
 HELD = [(), ("press", "1"), ("release", "1"), ()]
 WISHES = [(RECORD, TAPPED), ([(0, 0, "down"), (9, 0, "up")], [(), ()])]
@@ -41,6 +43,16 @@ def live_record(layout, record):
 
 def gapped(layout, order, gap, most):
     return timings.choices(layout, order, gap=gap, most=most)
+
+
+def typed_alone(layout, codes):
+    return typed.typed(layout, codes, alone=True)
+
+
+def executed(*rows):
+    """The answers of a new console to these rows."""
+    console_ = console.Console()
+    return [console_.execute(row) for row in rows]
 
 
 WRONG = [[["through", "bad"]], [(0, 0, "down"), (0, 0, "down")], [(0, "down"), None], [], None]
@@ -108,6 +120,22 @@ CALLS = [
     (halves.delays_for, [LAYOUT, RECORD, [1], 3, TAPPED]),
     (halves.delays_for, [LAYOUT, [], [1], 3, []]),
     (halves.safe_late, [LAYOUT, RECORD, [1], 100]),
+    (compare.same_layouts, [QUICK, SLOW]),
+    (compare.parting_record, [QUICK, SLOW]),
+    (compare.unused_layers, [QUICK + [["none", "none"]]]),
+    (compare.unused_places, [QUICK + [["none", "none"]]]),
+    (compare.idle_times, [QUICK + [[("dual", "a", ("code", "b"), 3, "time"), "none"]]]),
+    (typed.typed, [QUICK, ["a", "1"]]),
+    (typed.typed, [QUICK, []]),
+    (typed_alone, [QUICK, ["x", "1"]]),
+    (typed.is_typed, [QUICK, ["x"], [(0, 1, "down"), (1, 1, "up")]]),
+    (texts.format_layout, [LAYOUT]),
+    (texts.parse_layout, ["a/@1:5t x ^1\n- 1 -"]),
+    (texts.format_record, [RECORD]),
+    (texts.parse_record, ["0+0 1+1 1-2 0-4"]),
+    (texts.parse_record, [""]),
+    (texts.format_result, [TAPPED]),
+    (executed, ["layout a/@1:5t x ^1;- 1 -", "down 0 0", "record"]),
 ]
 
 
@@ -146,6 +174,12 @@ class TestConventions(unittest.TestCase):
             slack: ["slack", "shaken", "is_shaken"],
             times: ["by_time", "good_times", "best_time", "clash", "is_clash"],
             halves: ["late_results", "delays_for", "safe_late"],
+            compare: [
+                "same_layouts", "parting_record", "unused_layers", "unused_places", "idle_times",
+            ],
+            typed: ["typed", "is_typed"],
+            texts: ["format_layout", "parse_layout", "format_record", "parse_record", "format_result"],
+            console: ["Console"],
         }
         for module, listed in names.items():
             for name in listed:
@@ -158,6 +192,7 @@ class TestConventions(unittest.TestCase):
         for name in ("record", "now", "waiting", "layers", "codes"):
             self.assertIsInstance(vars(live.Board)[name], property)
         self.assertIsInstance(vars(live.Board)["of"], classmethod)
+        self.assertIn("execute", vars(console.Console))
 
     def test_arguments_are_not_modified(self):
         for call, args in CALLS:
@@ -338,6 +373,32 @@ class TestConventions(unittest.TestCase):
         wishes[0][1].pop()
         self.assertEqual(outcome(times.best_time, [LAYOUT, wishes, 0, 0])[0], "InvalidWishes")
 
+    def test_small_layouts_codes_and_results_that_were_changed_in_place(self):
+        layout, codes, result = copy.deepcopy(QUICK), ["1"], list(TAPPED)
+        self.assertIs(compare.same_layouts(layout, QUICK), True)
+        self.assertEqual(len(typed.typed(layout, codes)), 4)
+        self.assertEqual(compare.unused_places(layout), [])
+        layout[0][0] = ("once", 1)
+        self.assertIs(compare.same_layouts(layout, QUICK), False)
+        self.assertEqual(len(compare.parting_record(layout, QUICK)), 2)
+        layout[1][0] = ("code", "y")
+        codes.append("y")
+        self.assertEqual(len(typed.typed(layout, codes)), 8)
+        self.assertEqual(texts.format_layout(layout), "^1 x\ny 1")
+        layout[0][0] = "none"
+        self.assertEqual(compare.unused_layers(layout), [1])
+        self.assertEqual(compare.unused_places(layout), [(1, 0), (1, 1)])
+        self.assertIsNone(typed.typed(layout, codes))
+        codes.append("Y")
+        self.assertEqual(outcome(typed.typed, [layout, codes])[0], "InvalidCodes")
+        layout[0][0] = ("dual", "a", ("code", "a"), 2, "within")
+        self.assertEqual(compare.idle_times(layout), [(0, 0)])
+        layout[0][0] = ("dual", "a", ("code", "a"), 5, "within")
+        self.assertEqual(outcome(compare.idle_times, [layout]), ("TooLarge", {"limit": 4}))
+        self.assertEqual(texts.format_result(result), "+a +x -x -a")
+        result[1] = ()
+        self.assertEqual(texts.format_result(result), "+a . -x -a")
+
     def test_returned_values_are_accepted(self):
         self.assertEqual(playing.flat(combos.with_combos(LAYOUT, COMBOS), combos.gated(3, COMBOS, RECORD)),
                          [("press", "q"), ("release", "q")])
@@ -351,6 +412,11 @@ class TestConventions(unittest.TestCase):
         self.assertIs(times.is_clash(LAYOUT, CLASHING, 0, 0, found), True)
         for result in halves.late_results(LAYOUT, RECORD, [0, 1], 5):
             self.assertEqual(len(halves.delays_for(LAYOUT, RECORD, [0, 1], 5, result)), 4)
+        found = compare.parting_record(QUICK, SLOW)
+        self.assertNotEqual(playing.played(QUICK, found), playing.played(SLOW, found))
+        self.assertEqual(texts.parse_record(texts.format_record(found)), found)
+        self.assertEqual(texts.parse_layout(texts.format_layout(QUICK)), QUICK)
+        self.assertIs(typed.is_typed(QUICK, ["a", "1"], typed.typed(QUICK, ["a", "1"])), True)
         ring = timings.why_not(NESTED, ORDER, ("tap", "hold"))
         self.assertIsNone(differences.least_numbers(4, ring))
         changed = layouts.with_action(LAYOUT, 0, 1, "none")
