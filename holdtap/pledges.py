@@ -3,47 +3,45 @@
 A search plays each press of a dual at its down, as a tap or as a hold. What this needs of the
 later events is the pledge of the press: (least, most, downs, ups, behind). From now on the key
 stays down for at least and for at most so many ticks (None: any number). Until its up, another
-key never goes down, or has to go down, or it is all one; the same for ups of keys that went down
-behind it, and behind are those of them that are down. The hands are a tuple with an item for
-each key: its pledge if it is down, None if it is up.
+key "never" goes down, or it "must" go down, or "any" of the two; the same for ups of keys that
+went down behind it, and behind are those of them that are down. The hands are a tuple with an
+item for each key: its pledge if it is down, None if it is up.
 """
 
-ANY = 0
-MUST = 1
-NEVER = 2
-FREE = (0, None, ANY, ANY, ())
+FREE = (0, None, "any", "any", ())
 
 
 def pledges_for(dual, kind):
     """The pledges of which one is needed if a press of the dual is of this kind."""
     time, rule = dual[3], dual[4]
     if kind == "tap":
-        never_down = NEVER if rule == "other" else ANY
-        never_up = NEVER if rule == "within" else ANY
-        return [(0, time - 1, never_down, never_up, ())]
-    held = [(time, None, ANY, ANY, ())]
+        downs = "never" if rule == "other" else "any"
+        ups = "never" if rule == "within" else "any"
+        return [(0, time - 1, downs, ups, ())]
+    held = [(time, None, "any", "any", ())]
     if rule == "other":
-        held.append((0, None, MUST, ANY, ()))
+        held.append((0, None, "must", "any", ()))
     if rule == "within":
-        held.append((0, None, ANY, MUST, ()))
+        held.append((0, None, "any", "must", ()))
     return held
 
 
 def both_pledges(first, second):
     """The pledge of a new press that holds both of these, None if they exclude one another."""
-    least, most = max(first[0], second[0]), first[1]
-    if most is None or (second[1] is not None and second[1] < most):
-        most = second[1]
-    if most is not None and least > most:
+    least = max(first[0], second[0])
+    most = min([pledge[1] for pledge in (first, second) if pledge[1] is not None], default=None)
+    downs = both_words(first[2], second[2])
+    ups = both_words(first[3], second[3])
+    if downs is None or ups is None or (most is not None and least > most):
         return None
-    if not agree(first[2], second[2]) or not agree(first[3], second[3]):
-        return None
-    return (least, most, max(first[2], second[2]), max(first[3], second[3]), ())
+    return (least, most, downs, ups, ())
 
 
-def agree(first, second):
-    """Whether both of these can hold of the same events."""
-    return first == second or ANY in (first, second)
+def both_words(first, second):
+    """The word for events for which both words hold, None if they exclude one another."""
+    if first == "any":
+        return second
+    return first if second in ("any", first) else None
 
 
 def hands_after_tick(hands):
@@ -65,10 +63,10 @@ def hands_after_down(hands, key, pledge):
     for other, held in enumerate(hands):
         if held is not None:
             least, most, downs, ups, behind = held
-            if downs == NEVER:
+            if downs == "never":
                 return None
-            behind = behind if ups == ANY else behind + (key,)
-            later[other] = (least, most, ANY, ups, behind)
+            behind = behind if ups == "any" else behind + (key,)
+            later[other] = (least, most, "any", ups, behind)
     later[key] = pledge
     return tuple(later)
 
@@ -76,13 +74,13 @@ def hands_after_down(hands, key, pledge):
 def hands_after_up(hands, key):
     """The hands behind an up of the key, None if its own pledge or that of another bars it."""
     least, most, downs, ups, behind = hands[key]
-    if least > 0 or downs == MUST or ups == MUST:
+    if least > 0 or "must" in (downs, ups):
         return None
     later = list(hands)
     for other, held in enumerate(hands):
         if held is not None and key in held[4]:
-            if held[3] == NEVER:
+            if held[3] == "never":
                 return None
-            later[other] = (held[0], held[1], held[2], ANY, ())
+            later[other] = (held[0], held[1], held[2], "any", ())
     later[key] = None
     return tuple(later)
